@@ -2,9 +2,12 @@
 package mailbag
 
 import (
+	"sync"
+
 	"mailbag/api"
 	"mailbag/lists"
 	"mailbag/names"
+	"mailbag/store"
 )
 
 // Encode tells a folder's code (P3).
@@ -20,17 +23,32 @@ func Write(l api.List) (string, api.Errno) { return lists.Write(l) }
 func Read(data string) (api.List, api.Errno) { return lists.Read(data) }
 
 // Server keeps the folders.
-type Server struct{}
+type Server struct {
+	lock  sync.Mutex
+	store *store.Store
+}
 
 // Open makes a server of a disk's files; what it does on the disk (P7).
-func Open(files []api.File) (*Server, []api.Act, api.Errno) { return nil, nil, api.OK }
+func Open(files []api.File) (*Server, []api.Act, api.Errno) {
+	kept, acts, errno := store.Open(files)
+	if errno != api.OK {
+		return nil, nil, errno
+	}
+	return &Server{store: kept}, acts, api.OK
+}
 
 // Files tells the files that the disk has when all is done (P8).
-func (s *Server) Files() []api.File { return nil }
+func (s *Server) Files() []api.File {
+	s.lock.Lock()
+	defer s.lock.Unlock()
+	return s.store.Files()
+}
 
 // Deliver brings a message; its number, what is done on the disk (P9).
 func (s *Server) Deliver(folder string, text string) (int, []api.Act, api.Errno) {
-	return 0, nil, api.OK
+	s.lock.Lock()
+	defer s.lock.Unlock()
+	return s.store.Add(folder, "", text)
 }
 
 // Feed brings bytes of a connection; the bytes that go back, what is done on the disk (P10).
