@@ -8,6 +8,9 @@ const (
 	none    = "-"
 )
 
+// Doomed is the flag of messages that a sweep takes away.
+const Doomed = "d"
+
 // Right tells whether these are flags: each at most once, in their order.
 func Right(flags string) bool {
 	rest := inOrder
@@ -35,4 +38,36 @@ func Meant(word string) string {
 		return ""
 	}
 	return strings.Clone(word)
+}
+
+// Plus gives flags with more of them.
+func Plus(have, more string) string {
+	all := ""
+	for i := range len(inOrder) {
+		if letter := inOrder[i : i+1]; strings.Contains(have, letter) || strings.Contains(more, letter) {
+			all += letter
+		}
+	}
+	return all
+}
+
+// Minus gives flags without others.
+func Minus(have, others string) string {
+	left := ""
+	for i := range len(have) {
+		if letter := have[i : i+1]; !strings.Contains(others, letter) {
+			left += letter
+		}
+	}
+	return left
+}
+
+// HaveAll tells whether all of the others are among flags.
+func HaveAll(have, others string) bool {
+	return Plus(have, others) == have
+}
+
+// HaveNone tells whether none of the others is among flags.
+func HaveNone(have, others string) bool {
+	return !strings.ContainsAny(have, others)
 }

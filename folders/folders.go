@@ -2,6 +2,8 @@
 package folders
 
 import (
+	"slices"
+
 	"mailbag/api"
 	"mailbag/filenames"
 	"mailbag/lists"
@@ -22,9 +24,17 @@ type Folder struct {
 	Messages    []Message
 }
 
-// Full tells whether no message can come in.
-func (f *Folder) Full() bool {
-	return len(f.Messages) >= api.MaxMessages || f.Next > api.MaxUid
+// HasRoom tells whether so many messages can come in.
+func (f *Folder) HasRoom(count int) bool {
+	return len(f.Messages)+count <= api.MaxMessages && f.Next+count-1 <= api.MaxUid
+}
+
+// Find tells the message of a UID, if it is there.
+func (f *Folder) Find(uid int) (Message, bool) {
+	if i := f.place(uid); i >= 0 {
+		return f.Messages[i], true
+	}
+	return Message{}, false
 }
 
 // Add lets a message come in.
@@ -39,6 +49,21 @@ func (f *Folder) Append(m Message) Message {
 	f.Next++
 	f.Messages = append(f.Messages, m)
 	return m
+}
+
+// SetFlags gives the message of a UID these flags; whether it had others.
+func (f *Folder) SetFlags(uid int, flags string) bool {
+	i := f.place(uid)
+	if i < 0 || f.Messages[i].Flags == flags {
+		return false
+	}
+	f.Messages[i].Flags = flags
+	return true
+}
+
+// Remove takes the message of a UID away.
+func (f *Folder) Remove(uid int) {
+	f.Messages = slices.DeleteFunc(f.Messages, func(m Message) bool { return m.Uid == uid })
 }
 
 // File tells the file of a message.
@@ -64,6 +89,10 @@ func (f *Folder) Files() []api.File {
 		files = append(files, f.File(m))
 	}
 	return files
+}
+
+func (f *Folder) place(uid int) int {
+	return slices.IndexFunc(f.Messages, func(m Message) bool { return m.Uid == uid })
 }
 
 func (f *Folder) freeKey() int {

@@ -8,6 +8,7 @@ import (
 	"mailbag/lists"
 	"mailbag/names"
 	"mailbag/store"
+	"mailbag/talk"
 )
 
 // Encode tells a folder's code (P3).
@@ -26,6 +27,7 @@ func Read(data string) (api.List, api.Errno) { return lists.Read(data) }
 type Server struct {
 	lock  sync.Mutex
 	store *store.Store
+	talk  *talk.Talk
 }
 
 // Open makes a server of a disk's files; what it does on the disk (P7).
@@ -34,7 +36,7 @@ func Open(files []api.File) (*Server, []api.Act, api.Errno) {
 	if errno != api.OK {
 		return nil, nil, errno
 	}
-	return &Server{store: kept}, acts, api.OK
+	return &Server{store: kept, talk: talk.Of(kept)}, acts, api.OK
 }
 
 // Files tells the files that the disk has when all is done (P8).
@@ -52,4 +54,8 @@ func (s *Server) Deliver(folder string, text string) (int, []api.Act, api.Errno)
 }
 
 // Feed brings bytes of a connection; the bytes that go back, what is done on the disk (P10).
-func (s *Server) Feed(conn int, chunk string) (string, []api.Act, api.Errno) { return "", nil, api.OK }
+func (s *Server) Feed(conn int, chunk string) (string, []api.Act, api.Errno) {
+	s.lock.Lock()
+	defer s.lock.Unlock()
+	return s.talk.Feed(conn, chunk)
+}
