@@ -31,8 +31,10 @@ func (f *Folder) HasRoom(count int) bool {
 
 // Find tells the message of a UID, if it is there.
 func (f *Folder) Find(uid int) (Message, bool) {
-	if i := f.place(uid); i >= 0 {
-		return f.Messages[i], true
+	for _, m := range f.Messages {
+		if m.Uid == uid {
+			return m, true
+		}
 	}
 	return Message{}, false
 }
@@ -51,14 +53,13 @@ func (f *Folder) Append(m Message) Message {
 	return m
 }
 
-// SetFlags gives the message of a UID these flags; whether it had others.
-func (f *Folder) SetFlags(uid int, flags string) bool {
-	i := f.place(uid)
-	if i < 0 || f.Messages[i].Flags == flags {
-		return false
+// SetFlags gives the message of a UID these flags.
+func (f *Folder) SetFlags(uid int, flags string) {
+	for i := range f.Messages {
+		if f.Messages[i].Uid == uid {
+			f.Messages[i].Flags = flags
+		}
 	}
-	f.Messages[i].Flags = flags
-	return true
 }
 
 // Remove takes the message of a UID away.
@@ -89,10 +90,6 @@ func (f *Folder) Files() []api.File {
 		files = append(files, f.File(m))
 	}
 	return files
-}
-
-func (f *Folder) place(uid int) int {
-	return slices.IndexFunc(f.Messages, func(m Message) bool { return m.Uid == uid })
 }
 
 func (f *Folder) freeKey() int {

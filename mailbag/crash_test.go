@@ -113,12 +113,14 @@ var disksToOpen = [][]api.File{
 }
 
 func TestCrashOfOpen(t *testing.T) {
+	t.Parallel()
 	for _, files := range disksToOpen {
 		crashOpen(t, files, lastingOf(t, files), 2)
 	}
 }
 
 func TestCrashOfOpenOfRandomDisks(t *testing.T) {
+	t.Parallel()
 	rng := rand.New(rand.NewSource(21))
 	for range 800 {
 		files := randomDisk(rng)
@@ -129,6 +131,7 @@ func TestCrashOfOpenOfRandomDisks(t *testing.T) {
 }
 
 func TestCrashOfDeliver(t *testing.T) {
+	t.Parallel()
 	for _, files := range [][]api.File{
 		f("in/list", empty),
 		f("in/list", empty, "epoch/9", "", "other", "o", "out/list", withSum("3 100\n")),
@@ -146,6 +149,7 @@ func TestCrashOfDeliver(t *testing.T) {
 }
 
 func TestCrashOfDeliverOnRandomDisks(t *testing.T) {
+	t.Parallel()
 	rng := rand.New(rand.NewSource(22))
 	done := 0
 	for range 3000 {

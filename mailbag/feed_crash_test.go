@@ -43,6 +43,7 @@ var feedsToCrash = []string{
 }
 
 func TestCrashOfFeed(t *testing.T) {
+	t.Parallel()
 	for _, marks := range [][]api.File{nil, f("epoch/2", ""), f("epoch/5", ""), f("epoch/7", ""), f("epoch/98", "")} {
 		for _, chunk := range feedsToCrash {
 			p := newPair(t, join(threeFolders(), marks))
@@ -54,6 +55,7 @@ func TestCrashOfFeed(t *testing.T) {
 
 // The Open behind a crash may crash too.
 func TestCrashBehindACrashOfFeed(t *testing.T) {
+	t.Parallel()
 	for _, chunk := range feedsToCrash {
 		p := newPair(t, join(threeFolders(), f("epoch/2", "")))
 		p.tell(0, "o OPEN in\n")
@@ -77,6 +79,7 @@ func TestCrashAmongPieces(t *testing.T) {
 }
 
 func TestCrashOfRandomFeeds(t *testing.T) {
+	t.Parallel()
 	rng := rand.New(rand.NewSource(61))
 	steps := 0
 	for run := range 120 {

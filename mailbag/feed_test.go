@@ -334,9 +334,10 @@ func TestPlusAndMinus(t *testing.T) {
 			}
 			s.on(0, "b PLUS 1 "+asked+"\n", news(plus, have)+"b OK\n")
 			s.files("in/3.af", "x", "in/4.", "y", "in/list", withSum("1 9\n3 4 "+dash(plus)+"\n4 8 s\n"))
-			s.on(0, "c PLUS 1 "+asked+"\n", "c OK\n", "d MINUS 1 "+asked+"\n", news(minus, plus)+"d OK\n")
+			s.still(0, "c PLUS 1 "+asked+"\n", "c OK\n")
+			s.on(0, "d MINUS 1 "+asked+"\n", news(minus, plus)+"d OK\n")
 			s.files("in/3.af", "x", "in/4.", "y", "in/list", withSum("1 9\n3 4 "+dash(minus)+"\n4 8 s\n"))
-			s.on(0, "e MINUS 1 "+asked+"\n", "e OK\n")
+			s.still(0, "e MINUS 1 "+asked+"\n", "e OK\n")
 		}
 	}
 	s := serve(t, threeFolders())

@@ -145,6 +145,7 @@ func TestWordsAndParts(t *testing.T) {
 
 // Lines of all words and many parts, right and wrong, against the model.
 func TestEveryLineOfPieces(t *testing.T) {
+	t.Parallel()
 	words := []string{"NOOP", "LIST", "MAKE", "REMOVE", "OPEN", "LOOK", "SHUT", "ADD", "GET", "PLUS", "MINUS", "FIND", "COPY", "SWEEP", "noop", "OK", "*", "BYEBYE"}
 	parts := []string{"", "in", "a", "É", "\xff", "q", "-", "s", "ad", "da", "aa", "adfs", "1", "0", "00", "01", "2", "7", "40", "41", "999", "1000", "*", "1:2", "*:1", "1,2", "1,", ":1", "U", "UFST", "TT", "X", "ALL", "all", "+a", "+", "-d", "--", ">0", ">999", ">1000", "=a", "=", "=in"}
 	var lines []string

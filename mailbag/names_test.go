@@ -79,6 +79,7 @@ func TestNamesAndCodes(t *testing.T) {
 }
 
 func TestEveryRuneByItself(t *testing.T) {
+	t.Parallel()
 	for r := rune(0); r <= utf8.MaxRune; r++ {
 		// string(r) of a surrogate is "\ufffd", which is refused as well.
 		name, code := string(r), codeOf(r)

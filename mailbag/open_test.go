@@ -149,6 +149,7 @@ func TestEveryMessagesName(t *testing.T) {
 }
 
 func TestEveryNameOfPieces(t *testing.T) {
+	t.Parallel()
 	names := []string{""}
 	right := 0
 	for range 4 {
@@ -229,6 +230,7 @@ func TestWrongDisks(t *testing.T) {
 }
 
 func TestRandomDisks(t *testing.T) {
+	t.Parallel()
 	rng := rand.New(rand.NewSource(7))
 	right := 0
 	const all = 20000

@@ -162,6 +162,15 @@ func TestAnswersShareNothing(t *testing.T) {
 	if !sameFiles(second, want) {
 		t.Errorf("P2: one answer of Files hangs on another: %q, want %q", second, want)
 	}
+	for count := range 9 {
+		s, _ := open(t, join(many(count, "other#"), f("x/list", empty)[:count%2]))
+		first, second := s.Files(), s.Files()
+		want := slices.Clone(second)
+		spoilFiles(first)
+		if !sameFiles(second, want) || !sameFiles(s.Files(), want) {
+			t.Errorf("P2: one answer of Files hangs on another: %q, then %q, want %q", second, s.Files(), want)
+		}
+	}
 	_, one, _ := s.Deliver("in", "a")
 	wantOne := slices.Clone(one)
 	_, two, _ := s.Deliver("in", "b")

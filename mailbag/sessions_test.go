@@ -15,6 +15,7 @@ func threeFolders() []api.File {
 }
 
 func TestRandomSessions(t *testing.T) {
+	t.Parallel()
 	rng := rand.New(rand.NewSource(41))
 	counts := map[string]int{}
 	for run := range 1500 {

@@ -24,11 +24,11 @@ func Copy(f *folders.Folder, messages []folders.Message) ([]api.Act, bool) {
 
 // SetFlags lets messages of a folder have the flags with which they come here.
 func SetFlags(f *folders.Folder, messages []folders.Message) []api.Act {
-	changed := false
+	before := f.List()
 	for _, m := range messages {
-		changed = f.SetFlags(m.Uid, m.Flags) || changed
+		f.SetFlags(m.Uid, m.Flags)
 	}
-	if !changed {
+	if f.List() == before {
 		return nil
 	}
 	return put(f.List())

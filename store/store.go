@@ -58,7 +58,7 @@ func (s *Store) Make(name string) ([]api.Act, bool) {
 	if errno != api.OK || s.Find(name) != nil || len(s.folders) >= api.MaxFolders || s.epoch() >= api.MaxEpoch {
 		return nil, false
 	}
-	f := &folders.Folder{Name: strings.Clone(name), Code: code, Epoch: s.epoch() + 1, Next: 1}
+	f := &folders.Folder{Name: name, Code: code, Epoch: s.epoch() + 1, Next: 1}
 	s.folders = append(s.folders, f)
 	slices.SortFunc(s.folders, byFoldersCode)
 	return put(f.List()), true
@@ -95,7 +95,8 @@ func (s *Store) Add(name, flags, text string) (int, []api.Act, api.Errno) {
 	if !f.HasRoom(1) {
 		return 0, nil, api.ErrFull
 	}
-	uid, list := add(f, strings.Clone(flags), strings.Clone(text))
+	// The text may be memory of the caller's.
+	uid, list := add(f, flags, strings.Clone(text))
 	return uid, list, api.OK
 }
 
