@@ -4,7 +4,6 @@ import (
 	"math/rand"
 	"strconv"
 	"strings"
-	"sync"
 	"testing"
 
 	"mailbag/api"
@@ -184,42 +183,6 @@ func TestDeliverOnRandomDisks(t *testing.T) {
 	for _, errno := range []api.Errno{api.OK, api.ErrLong, api.ErrFolder, api.ErrFull} {
 		if counts[errno] < 50 {
 			t.Errorf("only %d calls were answered by %d", counts[errno], errno)
-		}
-	}
-}
-
-func TestCallsFromSeveralGoroutines(t *testing.T) {
-	for range 50 {
-		s, _ := open(t, f("in/list", empty, "a/list", withSum("2 1\n")))
-		var group sync.WaitGroup
-		got := make([]int, 20)
-		for i := range got {
-			group.Add(1)
-			go func() {
-				defer group.Done()
-				name := []string{"in", "a"}[i%2]
-				uid, _, errno := s.Deliver(name, strconv.Itoa(i))
-				if (errno == api.OK) != (uid > 0) {
-					t.Errorf("P13: %d, %d", uid, errno)
-				}
-				got[i] = uid
-				if _, ok := stateOf(s.Files()); !ok {
-					t.Errorf("P13: Files tells a wrong disk")
-				}
-			}()
-		}
-		group.Wait()
-		end, _ := stateOf(s.Files())
-		for i, code := range []string{"in", "a"} {
-			fo := end.folders[code]
-			if len(fo.messages) != 8 || fo.next != 9 {
-				t.Errorf("P13: of ten messages there are %v", fo)
-			}
-			for _, m := range fo.messages {
-				if n, _ := strconv.Atoi(m.text); n%2 != i || got[n] != m.uid {
-					t.Errorf("P13: the message %q has UID %d, the answer was %d", m.text, m.uid, got[n])
-				}
-			}
 		}
 	}
 }

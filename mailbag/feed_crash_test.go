@@ -1,7 +1,6 @@
 package mailbag_test
 
 import (
-	"fmt"
 	"math/rand"
 	"strings"
 	"testing"
@@ -105,82 +104,6 @@ func TestCrashOfRandomFeeds(t *testing.T) {
 	}
 	if steps < 500 {
 		t.Errorf("there were only %d steps", steps)
-	}
-}
-
-// past is what was seen of a disk on which servers come, are talked to, and crash.
-type past struct {
-	texts map[string]string // by epoch and UID
-	next  map[int]int       // by epoch
-	codes map[int]string    // by epoch
-	epoch int
-}
-
-func (h *past) check(t *testing.T, files []api.File) {
-	t.Helper()
-	state, ok := stateOf(files)
-	if !ok {
-		t.Fatalf("P11: the disk is wrong: %q", files)
-	}
-	if state.epoch < h.epoch {
-		t.Fatalf("P12: the epoch of the disk fell from %d to %d", h.epoch, state.epoch)
-	}
-	h.epoch = state.epoch
-	for code, fo := range state.folders {
-		if was, seen := h.codes[fo.epoch]; seen && was != code {
-			t.Fatalf("P12: the epoch %d of %s was that of %s", fo.epoch, code, was)
-		}
-		h.codes[fo.epoch] = code
-		if fo.next < h.next[fo.epoch] {
-			t.Fatalf("P12: the next UID of %s fell from %d to %d", code, h.next[fo.epoch], fo.next)
-		}
-		for _, m := range fo.messages {
-			id := fmt.Sprintf("%d %d", fo.epoch, m.uid)
-			text, seen := h.texts[id]
-			if seen && text != m.text || !seen && m.uid < h.next[fo.epoch] {
-				t.Fatalf("P12: the message %d of %s was %q (%v), and is %q", m.uid, code, text, seen, m.text)
-			}
-			h.texts[id] = m.text
-		}
-		h.next[fo.epoch] = fo.next
-	}
-}
-
-// What lasts behind a crash is a step of the call that crashed, and the next server goes on from there.
-func TestLivesWithCrashes(t *testing.T) {
-	rng := rand.New(rand.NewSource(62))
-	for run := range 150 {
-		files := threeFolders()
-		if run%2 == 0 {
-			// Epochs of the test's own disks may be the same.
-			files = f("in/list", empty)
-		}
-		h := &past{map[string]string{}, map[int]int{}, map[int]string{}, 0}
-		for range 8 {
-			h.check(t, files)
-			files = oneLife(t, rng, files)
-		}
-	}
-}
-
-func oneLife(t *testing.T, rng *rand.Rand, files []api.File) []api.File {
-	t.Helper()
-	p := newPair(t, files)
-	for {
-		conn, chunk := rng.Intn(3), randomLine(rng)+randomLine(rng)
-		if rng.Intn(8) > 0 {
-			p.tell(conn, chunk)
-			continue
-		}
-		before := p.m.lasting()
-		acts := p.feed(conn, chunk)
-		p.d.do(t, acts[:rng.Intn(len(acts)+1)])
-		crashes := p.d.crashes()
-		left := crashes[rng.Intn(len(crashes))]
-		if got := lastingOf(t, left); !strings.Contains(strings.Join(append(p.m.steps, before), "\n")+"\n", got+"\n") {
-			t.Fatalf("P11: behind %s a crash leaves %s, want %s or one of %s", strings.Join(p.said, "\n"), got, before, p.m.steps)
-		}
-		return left
 	}
 }
 

@@ -4,9 +4,7 @@ import (
 	"fmt"
 	"math/rand"
 	"slices"
-	"strconv"
 	"strings"
-	"sync"
 	"testing"
 	"unsafe"
 
@@ -112,64 +110,4 @@ func TestChunksOfAnyLengthEnd(t *testing.T) {
 		s.refuse(3, strings.Repeat(text, 5000000), api.ErrConn)
 	}
 	s.still(0, "a LIST\n", "a OK\n")
-}
-
-// Connections, deliveries and looks at the files at once: each call is whole.
-func TestFeedsFromSeveralGoroutines(t *testing.T) {
-	for range 40 {
-		s, _ := open(t, f("in/list", empty, "a/list", withSum("2 1\n")))
-		var group sync.WaitGroup
-		added := make([]int, 3)
-		for conn := range 3 {
-			group.Add(2)
-			go func() {
-				defer group.Done()
-				added[conn] = talkAtOnce(t, s, conn)
-			}()
-			go func() {
-				defer group.Done()
-				for i := range 20 {
-					uid, _, errno := s.Deliver("a", strconv.Itoa(i))
-					if (errno == api.OK) != (uid > 0) {
-						t.Errorf("P13: Deliver is %d, %d", uid, errno)
-					}
-					if _, ok := stateOf(s.Files()); !ok {
-						t.Errorf("P13: Files tells a wrong disk")
-					}
-				}
-			}()
-		}
-		group.Wait()
-		end, _ := stateOf(s.Files())
-		in, sum := end.folders["in"], added[0]+added[1]+added[2]
-		if in.next != 1+sum || len(in.messages) > 8 || len(end.folders["a"].messages) != 8 {
-			t.Errorf("P13: %d were added, the folders are %v", sum, end.folders)
-		}
-	}
-}
-
-// talkAtOnce tells how many messages came in.
-func talkAtOnce(t *testing.T, s *mailbag.Server, conn int) int {
-	count := 0
-	for i := range 30 {
-		chunk := "a ADD in d 2\nhi\n"
-		if i%10 == 5 {
-			chunk = "a OPEN in\na SWEEP\na SHUT\n"
-		}
-		half := len(chunk) / 2
-		first, _, one := s.Feed(conn, chunk[:half])
-		second, _, two := s.Feed(conn, chunk[half:])
-		if one != api.OK || two != api.OK {
-			t.Errorf("P13: Feed is %d, %d", one, two)
-		}
-		switch got := first + second; {
-		case i%10 == 5 && !strings.HasSuffix(got, "a OK\na OK\n"):
-			t.Errorf("P13: the answer is %q", got)
-		case got == "+\na OK\n":
-			count++
-		case i%10 != 5 && got != "+\na NO\n":
-			t.Errorf("P13: the answer is %q", got)
-		}
-	}
-	return count
 }

@@ -227,7 +227,7 @@ func TestPiecesMakeNoDifference(t *testing.T) {
 }
 
 // A line is answered with the byte that ends it, not later.
-func TestAnswersComeAtOnce(t *testing.T) {
+func TestAnswersDoNotWait(t *testing.T) {
 	s, _ := open(t, threeFolders())
 	for i := range len(talkOfAllKinds) {
 		got, _, errno := s.Feed(0, talkOfAllKinds[i:i+1])

@@ -89,6 +89,31 @@ func (m *model) feed(conn int, chunk string) (string, api.Errno) {
 	return out, api.OK
 }
 
+func (m *model) deliver(name, text string) (int, api.Errno) {
+	m.steps = nil
+	code, fo, there := m.named(name)
+	switch {
+	case len(text) > 40:
+		return 0, api.ErrLong
+	case !there:
+		return 0, api.ErrFolder
+	case len(fo.messages) == 8 || fo.next > 99:
+		return 0, api.ErrFull
+	}
+	m.add(code, "", text)
+	return fo.next, api.OK
+}
+
+// clone: folders are never written into, but views are.
+func (m *model) clone() *model {
+	other := newModel(m.state)
+	other.talkers = m.talkers
+	for i, c := range m.talkers {
+		other.talkers[i].view = slices.Clone(c.view)
+	}
+	return other
+}
+
 // next tells false if it needs more bytes.
 func (m *model) next(c *talker) (string, bool) {
 	end := strings.Index(c.waiting, "\n")

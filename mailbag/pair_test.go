@@ -58,15 +58,23 @@ func inPieces(rng *rand.Rand, text string, tell func(piece string)) {
 	}
 }
 
-func (p *pair) deliver(name, text string) {
+// bring: as feed, of a delivery.
+func (p *pair) bring(name, text string) []api.Act {
 	p.t.Helper()
 	p.said = append(p.said, fmt.Sprintf("Deliver(%q, %q)", name, text))
-	code, fo, there := p.m.named(name)
-	if !there || len(fo.messages) == 8 || fo.next > 99 {
-		return
+	want, wantErrno := p.m.deliver(name, text)
+	got, acts, errno := p.s.Deliver(name, text)
+	if got != want || errno != wantErrno || errno != api.OK && acts != nil {
+		p.t.Fatalf("P9: behind\n%s\nthe answer is %d, %v, %d, want %d, %d", strings.Join(p.said, "\n"), got, acts, errno, want, wantErrno)
 	}
-	p.m.add(code, "", text)
-	deliver(p.t, p.s, p.d, name, text, fo.next)
+	return acts
+}
+
+// deliver: as tell, of a delivery.
+func (p *pair) deliver(name, text string) {
+	p.t.Helper()
+	p.d.do(p.t, p.bring(name, text))
+	wantDisk(p.t, p.s, p.d, p.m.inOrder())
 }
 
 // wantStep: a crash may leave this.
@@ -89,11 +97,17 @@ func (p *pair) wantStep(files []api.File, acts []api.Act, before string) map[str
 	return seen
 }
 
-// crash: as tell, but with crashes on the way; each state that is a step is seen behind one of them.
+// crash: as tell, but with crashes on the way.
 func (p *pair) crash(conn int, chunk string) {
 	p.t.Helper()
+	p.crashCall(func() []api.Act { return p.feed(conn, chunk) })
+}
+
+// crashCall: each state that is a step of a call is seen behind a crash, and no other is.
+func (p *pair) crashCall(call func() []api.Act) {
+	p.t.Helper()
 	files, before := p.d.files(), p.m.lasting()
-	acts := p.feed(conn, chunk)
+	acts := call()
 	seen := p.wantStep(files, acts, before)
 	for _, step := range append([]string{before}, p.m.steps...) {
 		if seen[step] == 0 {

@@ -66,17 +66,51 @@ func TestRandomSessionsInGreatChunks(t *testing.T) {
 	}
 }
 
-func FuzzFeed(f *testing.F) {
-	f.Add("a OPEN in\nb GET 1:* UFST\n", "c ADD in d 3\nabc\nd SWEEP\n", uint8(7))
-	f.Add("a MAKE x\nb ADD x - 0\n\nc OPEN x\n", "d COPY * in\ne REMOVE a\nf LIST\n", uint8(100))
-	f.Add("a OPEN É\nb COPY 1,1 É\nc PLUS * adfs\nd FIND +a -s >1 =x\n", "e BYE\n", uint8(1))
-	f.Fuzz(func(t *testing.T, first, second string, size uint8) {
+// The lines of three connections, and their texts, come in pieces between one another.
+func TestRandomSessionsBetweenOneAnother(t *testing.T) {
+	t.Parallel()
+	rng := rand.New(rand.NewSource(43))
+	waited := 0
+	for range 2500 {
 		p := newPair(t, threeFolders())
-		for conn, all := range []string{first, second} {
-			for len(all) > 0 {
-				n := min(len(all), int(size)+1)
-				p.tell(conn, all[:n])
-				all = all[n:]
+		var toCome [3]string
+		for range 150 {
+			conn := rng.Intn(3)
+			if toCome[conn] == "" {
+				toCome[conn] = randomLine(rng)
+			}
+			if rng.Intn(20) == 0 {
+				p.d.do(t, p.bring(pick(rng, "in", "a", "É", "q"), "news"))
+			}
+			n := 1 + rng.Intn(len(toCome[conn]))
+			p.d.do(t, p.feed(conn, toCome[conn][:n]))
+			toCome[conn] = toCome[conn][n:]
+			for _, c := range p.m.talkers {
+				if c.adding != nil && len(p.m.steps) > 0 {
+					waited++
+				}
+			}
+		}
+		wantDisk(t, p.s, p.d, p.m.inOrder())
+	}
+	if waited < 1000 {
+		t.Errorf("only %d changes came while a text was on its way", waited)
+	}
+}
+
+func FuzzFeed(f *testing.F) {
+	f.Add("a OPEN in\nb GET 1:* UFST\n", "c ADD in d 3\nabc\nd SWEEP\n", "", uint8(7))
+	f.Add("a MAKE x\nb ADD x - 0\n\nc OPEN x\n", "d COPY * in\ne REMOVE a\nf LIST\n", "a OPEN a\nb SHUT\n", uint8(100))
+	f.Add("a OPEN É\nb COPY 1,1 É\nc PLUS * adfs\nd FIND +a -s >1 =x\n", "e BYE\n", "a LOOK É\nb NOOP\n", uint8(1))
+	f.Add("a OPEN in\nb PLUS 1 d\nc NOOP\n", "a OPEN in\nb SWEEP\nc NOOP\n", "a LOOK in\nb GET 1:* UF\nc NOOP\n", uint8(11))
+	f.Fuzz(func(t *testing.T, first, second, third string, size uint8) {
+		p := newPair(t, threeFolders())
+		all := []string{first, second, third}
+		for len(all[0])+len(all[1])+len(all[2]) > 0 {
+			for conn, text := range all {
+				n := min(len(text), int(size)+1)
+				p.tell(conn, text[:n])
+				all[conn] = text[n:]
 			}
 		}
 		p.tell(0, "\nz LIST\n")
