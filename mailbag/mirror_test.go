@@ -10,7 +10,7 @@ import (
 	"mailbag/api"
 )
 
-// mirror: what the user of a connection can tell of a folder by the answers alone. It knows nothing of how views work, but that answers must make it the same as the folder.
+// mirror: what the user of a connection makes of a folder by the answers; of messages that are told to be new it sees the UIDs and flags in the folder itself. It knows nothing of how views work, but that answers must make it the same as the folder.
 type mirror struct {
 	code  string // of the folder that is opened
 	seen  int    // the greatest UID so far
